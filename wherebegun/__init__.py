@@ -1,0 +1,1 @@
+"""Wherebegun: loops round a closed list, and whether it matters where they begin."""
