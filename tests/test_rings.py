@@ -1,6 +1,7 @@
 import itertools
 import unittest
 
+from by_hand import Case, Equal, turnings
 from wherebegun import rings
 from wherebegun.errors import InvalidNumber, InvalidPlace, InvalidWord, NotARing
 from wherebegun.rings import Ring
@@ -27,24 +28,11 @@ def words(signs, most):
             yield "".join(chosen)
 
 
-def turnings(word):
-    return [word[k:] + word[:k] for k in range(len(word))]
-
-
 def read(text, place, number):
     return "".join(text[(place + k) % len(text)] for k in range(number))
 
 
-class RingCase(unittest.TestCase):
-    def refuses(self, error, value, action, attribute="given"):
-        """The action raises just this error with just this value."""
-        with self.assertRaises(error) as held:
-            action()
-        self.assertIs(type(held.exception), error)
-        self.assertIs(getattr(held.exception, attribute), value)
-
-
-class ExamplesTest(RingCase):
+class ExamplesTest(Case):
     def test_examples_of_the_document(self):
         ring = Ring("cabab")
         self.assertEqual(
@@ -65,7 +53,7 @@ class ExamplesTest(RingCase):
             self.assertIsInstance(vars(Ring)[name], property)
 
 
-class MakingTest(RingCase):
+class MakingTest(Case):
     def test_all_turnings_give_equal_rings(self):
         for word in words("ab", 7):
             least = min(turnings(word))
@@ -128,7 +116,7 @@ class MakingTest(RingCase):
         self.assertEqual(value, ["b", "a"])
 
 
-class ReadingTest(RingCase):
+class ReadingTest(Case):
     def test_the_sign_behind_a_place(self):
         for word in ("a", "ba", "cabab", "abab", "bbbacca"):
             ring = Ring(word)
@@ -200,7 +188,7 @@ class ReadingTest(RingCase):
             self.assertIs(bool(ring), True)
 
 
-class OperatorsTest(RingCase):
+class OperatorsTest(Case):
     def test_the_other_way_round(self):
         for word in words("ab", 6):
             ring = Ring(word)
@@ -265,7 +253,7 @@ class OperatorsTest(RingCase):
         self.assertEqual((one.text, one.period, other.text, other.period), ("ababc", 5, "ab", 2))
 
 
-class ComparingTest(RingCase):
+class ComparingTest(Case):
     def test_rings(self):
         self.assertTrue(Ring("ab") == Ring("ba"))
         self.assertFalse(Ring("ab") != Ring("ba"))
@@ -286,14 +274,7 @@ class ComparingTest(RingCase):
                 self.assertIs(value != ring, True)
 
 
-class Equal:
-    """Would be equal to everything, if it were asked."""
-
-    def __eq__(self, other):
-        return True
-
-
-class ContainingTest(RingCase):
+class ContainingTest(Case):
     def test_each_short_word(self):
         for word in words("ab", 4):
             ring = Ring(word)

@@ -1,0 +1,25 @@
+"""Where a map leads, done again and again."""
+
+
+class Course:
+    """The states ahead of the rounds, if this map leads from each of them to that ahead of the next round."""
+
+    def __init__(self, leads):
+        self.path = [0]
+        state = leads[0]
+        while state not in self.path:
+            self.path.append(state)
+            state = leads[state]
+        # The states from this index on come again and again, those ahead of it only once.
+        self.head = self.path.index(state)
+        self.again = len(self.path) - self.head
+
+    def place(self, rounds):
+        """The index in the path of the state behind so many rounds."""
+        if rounds < len(self.path):
+            return rounds
+        return self.head + (rounds - self.head) % self.again
+
+    def behind(self, rounds):
+        """The state behind so many rounds."""
+        return self.path[self.place(rounds)]
