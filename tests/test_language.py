@@ -10,7 +10,7 @@ PACKAGE = pathlib.Path(__file__).resolve().parent.parent / "wherebegun"
 LIBRARY = {
     "heapq": {"heappush", "heappop", "heapify", "heapreplace", "heappushpop"},
     "math": {"gcd", "lcm", "isqrt", "comb", "perm", "factorial"},
-    "itertools": {"product", "combinations", "permutations"},
+    # Nothing from itertools: the package has an object that is iterated over and has __len__.
 }
 ALLOWED_BUILTINS = set(
     "len range enumerate zip min max sum abs sorted reversed int str bool bytes list tuple dict set frozenset "
@@ -82,10 +82,38 @@ class LanguageTest(unittest.TestCase):
                 self.assertIsInstance(node.ctx, ast.Load, (path, node.id))
                 self.assertIn(node.id, ALLOWED_BUILTINS, path)
 
+        for path, node in nodes((ast.arg, ast.FunctionDef, ast.ClassDef)):
+            self.assertNotIn(getattr(node, "arg", getattr(node, "name", "")), dir(builtins), path)
+
     def test_lists_stand_where_a_generator_may_not(self):
-        for path, node in nodes(ast.Call):
-            if isinstance(node.func, ast.Name) and node.func.id in ("any", "all", "min", "max", "sum", "sorted"):
-                self.assertFalse([part for part in node.args if isinstance(part, ast.GeneratorExp)], path)
+        # A list may always stand there, so that there is no need for a generator expression.
+        self.assertEqual(nodes(ast.GeneratorExp), [])
+
+    def test_a_name_that_is_imported_is_not_bound_again(self):
+        for path, tree in trees():
+            imported = {name.name for node in ast.walk(tree) if isinstance(node, ast.ImportFrom) for name in node.names}
+            classes = {node.name for node in ast.walk(tree) if isinstance(node, ast.ClassDef)}
+            for node in ast.walk(tree):
+                if isinstance(node, ast.Name) and isinstance(node.ctx, ast.Store):
+                    self.assertNotIn(node.id, imported | classes, path)
+                if isinstance(node, ast.arg):
+                    self.assertNotIn(node.arg, imported | classes, path)
+
+    def test_attributes_are_neither_methods_nor_properties(self):
+        bodies = [node.body for _, node in nodes(ast.ClassDef)]
+        methods = {part.name for body in bodies for part in body if isinstance(part, ast.FunctionDef)}
+        stored = {node.attr for _, node in nodes(ast.Attribute) if isinstance(node.ctx, ast.Store)}
+        self.assertEqual(methods & stored, set())
+
+    def test_generators_are_iterated_at_once(self):
+        made = {node.name for _, node in nodes(ast.FunctionDef)
+                if any(isinstance(part, (ast.Yield, ast.YieldFrom)) for part in ast.walk(node))}
+        for path, tree in trees():
+            heads = [node.iter for node in ast.walk(tree) if isinstance(node, (ast.For, ast.comprehension))]
+            calls = [node for node in ast.walk(tree) if isinstance(node, ast.Call) and isinstance(node.func, ast.Name)]
+            for call in calls:
+                if call.func.id in made:
+                    self.assertIn(call, heads, path)
 
     def test_barred_words(self):
         for path, tree in trees():

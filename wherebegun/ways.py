@@ -17,7 +17,8 @@ class Way:
     def __init__(self, stands, leads, ahead, meets):
         self.one = stands.one
         self.other = stands.other
-        self.leads_one, self.leads_other = leads
+        self.leads_one = leads[0]
+        self.leads_other = leads[1]
         self.ahead = ahead
         self.meets = meets
         self._course_one = Course(self.one.with_turn(self.leads_one))
