@@ -128,3 +128,12 @@ def number_of_stands(loops, kind, most=2000):
                     found.add((more, first, sign))
                     waiting.append((more, first, sign))
     return len(found)
+
+
+def leads(loop, text):
+    """The names of the states to which this word leads each state, without a turn."""
+    table = {(state, sign): further for state, sign, further, _ in loop.rows}
+    states = list(loop.states)
+    for sign in text:
+        states = [table[state, sign] for state in states]
+    return states

@@ -1,79 +1,19 @@
 import random
 import unittest
-from functools import lru_cache
 
+from asked_tests import AskedTests
 from by_hand import (
-    ANEW, EVERY, FAR, ODD, SHIFTS, SWITCH, Case, Equal, answers, is_of, loop_of, number_of_stands, some_loop, texts_of,
+    ANEW, EVERY, FAR, ODD, SHIFTS, SWITCH, Case, answers, is_of, loop_of, number_of_stands, some_loop, texts_of,
     turnings)
-from wherebegun import begun
+from samples import (
+    FIRST_OF_600, FIRST_OF_604, JUST_600, JUST_601, KINDS, LAPS, ROUNDS, SECOND_OF_600, SECOND_OF_604, opposite,
+    rings_of_two, samples)
 from wherebegun.begun import (
     alike, alike_anywhere, any_place, count_range, disagrees, matters, same_place, settles, spread, spreads, unlike)
-from wherebegun.errors import InvalidRound, NoRing, NotAKind, NotALoop, OtherSigns, TooMany
+from wherebegun.errors import NoRing, OtherSigns, TooMany
 from wherebegun.kinds import Kind
 from wherebegun.loops import Loop
 from wherebegun.rings import Ring
-
-KINDS = (
-    Kind("ab"), Kind("ab", ("ab", "ba")), Kind("ab", ("aa", "ab", "ba")), Kind("ab", ("ab", "ba", "bb")),
-    Kind("ab", ("aa", "ab")), Kind("ab", ("aa", "bb")), Kind("a"), Kind("b"), Kind("ab", ("bb",)))
-THREE_SIGNS = (
-    Kind("abc", ("ab", "bc", "ca")), Kind("abc", ("ab", "ba", "cc")), Kind("abc", ("ab", "ba", "bc", "cb")),
-    Kind("abc", ("ab", "bc", "ca", "aa")), Kind("ac", ("ac", "ca", "cc")))
-ROUNDS = 12
-# Rounds of which those behind the sixth come again for loops with up to three states.
-LAPS = ((1, 1), (2, 2), (1, 2), (3, 1), (5, 8))
-# How long the rings are that are written out, at first and then where these do not tell.
-LENGTHS = {1: (12,), 2: (6, 9, 11, 13), 3: (5, 7, 9, 11)}
-
-# They have just 600 stands and just 601, over the signs a and b with all pairs.
-JUST_600 = loop_of({"a": "rsqtt", "b": "ssqpr"}, {"a": (0, 1, 0, 0, 0), "b": (0, 0, 1, 0, 0)}, "qrstp", None, "q")
-JUST_601 = loop_of({"a": "rspqq", "b": "trpsr"})
-# Two loops that have just 600 stands together, and two that have 604.
-FIRST_OF_600 = loop_of({"a": "pppr", "b": "qrsp"}, None, None, None, "q")
-SECOND_OF_600 = loop_of({"a": "pqp", "b": "qrp"})
-FIRST_OF_604, SECOND_OF_604 = loop_of({"a": "rsqp", "b": "qrqr"}), loop_of({"a": "rpq", "b": "qqp"})
-
-
-class Rings:
-    """The answers of two loops from all places of all rings of a kind up to some lengths."""
-
-    def __init__(self, one, other, kind):
-        self.loops = (one, other)
-        self.kind = kind
-        self.lengths = LENGTHS[len(kind.signs)]
-        self.told = {}
-
-    def of_length(self, length):
-        """For each ring of this length the answers of both loops, begun at each of its places."""
-        if length not in self.told:
-            self.told[length] = [
-                tuple([answers(loop, turning, ROUNDS) for turning in turnings(text)] for loop in self.loops)
-                for text in texts_of(self.kind, length)]
-        return self.told[length]
-
-    def up_to(self, length):
-        return [ring for size in range(1, length + 1) for ring in self.of_length(size)]
-
-    def greatest(self, measure, length):
-        return max((measure(near, far) for near, far in self.up_to(length)), default=None)
-
-    def holds(self, test):
-        """Whether for some ring of the first length to which the rings are written out this holds."""
-        return any(test(near, far) for near, far in self.up_to(self.lengths[0]))
-
-    def is_greatest(self, value, measure):
-        """Whether this is the greatest of what is measured; None if it is greater and greater for longer rings."""
-        for length in self.lengths:
-            found = self.greatest(measure, length)
-            if value is not None and found is not None and found > value:
-                return False
-            if value is None:
-                before = self.greatest(measure, length // 2)
-                if found is not None and before is not None and found > before:
-                    return True
-            elif found == value:
-                return True
-        return False
 
 
 def counts(told, lap):
@@ -100,26 +40,6 @@ def any_in_swapped(lap, later):
     return lambda near, far: any_in(later, lap)(far, near)
 
 
-def opposite(value):
-    return None if value is None else -value
-
-
-@lru_cache(maxsize=None)
-def samples():
-    """Pairs of loops with a kind, and their rings."""
-    source = random.Random(12)
-    found = []
-    for kind in KINDS * 4 + THREE_SIGNS * 2:
-        signs = "abc" if "c" in kind.signs else "ab"
-        one = some_loop(source, signs, source.choice((1, 2, 2, 3)), source.choice((0, 1, 1, 2)))
-        other = one if source.random() < 0.2 else some_loop(source, one.signs, source.choice((1, 2)), 1)
-        found.append((one, other, kind, Rings(one, other, kind)))
-    for one, other in ((SHIFTS, ANEW), (ANEW, SHIFTS), (ODD, SHIFTS), (SHIFTS, SHIFTS), (ODD, ODD)):
-        for kind in KINDS[:5]:
-            found.append((one, other, kind, Rings(one, other, kind)))
-    return found
-
-
 class ExamplesTest(Case):
     def test_examples_of_the_document(self):
         shifts, anew, odd, every, switch = SHIFTS, ANEW, ODD, EVERY, SWITCH
@@ -134,12 +54,6 @@ class ExamplesTest(Case):
         self.assertEqual(
             [alike(shifts, anew, every), alike(odd, odd, every), unlike(odd, odd, every), settles(odd, Kind("a"))],
             [False, True, None, 0])
-
-    def test_what_is_listed_stands_in_the_file_itself(self):
-        for function in (alike, alike_anywhere, any_place, count_range, disagrees, matters, same_place, settles, spread,
-                         spreads, unlike):
-            self.assertEqual(function.__module__, "wherebegun.begun")
-            self.assertIs(vars(begun)[function.__name__], function)
 
 
 class AllRingsTest(Case):
@@ -341,7 +255,7 @@ class TwoLoopsTest(Case):
         one = loop_of({"a": "qp", "c": "pp", "b": "pq"}, {"a": (1, 2), "b": (0, 1), "c": (50, 60)}, None, None, "q")
         other = loop_of({"d": "pq", "a": "pq", "b": "qp"}, {"a": (0, 1), "b": (1, 0), "d": (70, 80)}, None, None, "q")
         for kind in KINDS:
-            rings = Rings(one, other, kind)
+            rings = rings_of_two(one, other, kind)
             for lap, later in LAPS:
                 for function, measure in ((same_place, same_in(lap, later)), (any_place, any_in(lap, later))):
                     found = function(one, other, kind, lap, later=later)
@@ -459,10 +373,6 @@ class StandsTest(Case):
         self.assertIsNone(spread(loop, EVERY, 1))
 
 
-NO_LOOPS = (None, True, 0, "", "ab", (), [], {}, SHIFTS.row, list(SHIFTS.row), EVERY, Ring("ab"), Loop, Equal())
-NO_KINDS = (None, True, 0, "", "ab", (), [], {}, EVERY.row, list(EVERY.row), SHIFTS, Ring("ab"), Kind, Equal())
-NO_ROUNDS = (0, -1, -FAR, None, True, False, "1", "", b"1", (), (1,), [1], {}, SHIFTS, EVERY, Ring("a"), Equal())
-NO_LATER = tuple(value for value in NO_ROUNDS if value is not None)
 ASKED = (
     (count_range, ("loop", "kind", "lap"), (SHIFTS, EVERY, 1)), (spread, ("loop", "kind", "lap"), (SHIFTS, EVERY, 1)),
     (disagrees, ("loop", "kind", "lap"), (SHIFTS, EVERY, 1)), (matters, ("loop", "kind", "lap"), (SHIFTS, EVERY, 1)),
@@ -472,84 +382,15 @@ ASKED = (
     (alike, ("one", "other", "kind"), (SHIFTS, ODD, EVERY)),
     (alike_anywhere, ("one", "other", "kind"), (SHIFTS, ODD, EVERY)),
     (unlike, ("one", "other", "kind"), (SHIFTS, ODD, EVERY)))
-WRONG = {
-    "loop": (NotALoop, NO_LOOPS), "one": (NotALoop, NO_LOOPS), "other": (NotALoop, NO_LOOPS),
-    "kind": (NotAKind, NO_KINDS), "lap": (InvalidRound, NO_ROUNDS), "later": (InvalidRound, NO_LATER)}
 
 
-def called(function, names, values):
-    """The function called by position, but for what stands behind the star."""
-    told = dict(zip(names, values))
-    later = {"later": told.pop("later")} if "later" in told else {}
-    return function(*told.values(), **later)
+class ErrorsTest(AskedTests, Case):
+    ASKED = ASKED
 
-
-class ErrorsTest(Case):
-    def test_by_position_and_by_name(self):
-        for function, names, values in ASKED:
-            self.assertEqual(called(function, names, values), function(**dict(zip(names, values))))
+    def test_later_is_passed_by_name_alone(self):
         for function in (same_place, any_place):
             with self.assertRaises(TypeError):
                 function(SHIFTS, ODD, EVERY, 1, 2)
-
-    def test_each_argument_in_its_order(self):
-        for function, names, values in ASKED:
-            for at, name in enumerate(names):
-                error, wrong = WRONG[name]
-                # What stands behind is wrong, too; ahead of it all is right, but for what is checked last.
-                behind = [WRONG[other][1][1] for other in names[at + 1:]]
-                for value in wrong:
-                    with self.subTest(function=function.__name__, name=name, value=value):
-                        for told in ((*values[:at], value, *behind), (*values[:at], value, *values[at + 1:])):
-                            self.refuses(error, value, lambda: called(function, names, told))
-                            self.refuses(error, value, lambda: function(**dict(zip(names, told))))
-
-    def test_wrong_arguments_come_ahead_of_what_is_checked_last(self):
-        for kind in (Kind("abc"), Kind("ab", ("ab",)), EVERY):
-            for function, names, values in ASKED:
-                told = {**dict(zip(names, values)), "kind": kind}
-                for name in ("loop", "one", "other"):
-                    if name in told:
-                        told[name] = JUST_601
-                for name in names:
-                    if name != "kind":
-                        error, wrong = WRONG[name]
-                        self.refuses(error, wrong[1], lambda: function(**{**told, name: wrong[1]}))
-
-    def test_other_signs_then_no_ring_then_too_many(self):
-        for function, names, values in ASKED:
-            told = dict(zip(names, values))
-            for loop in (SHIFTS, JUST_601):
-                for name in ("loop", "one", "other"):
-                    if name not in told:
-                        continue
-                    for kind in (Kind("abc"), Kind("c"), Kind("abc", ("ab",)), Kind("bd", ()), Kind("dz", ("dd",))):
-                        self.refuses(OtherSigns, kind, lambda: function(**{**told, name: loop, "kind": kind}))
-            with self.assertRaises(NoRing) as held:
-                function(**{**told, "kind": Kind("ab", ("ab",))})
-            self.assertIs(type(held.exception), NoRing)
-            with self.assertRaises(NoRing):
-                function(**{**told, "kind": Kind("b", ())})
-
-    def test_one_of_two_loops_lacks_a_sign(self):
-        only = loop_of({"a": "p"})
-        for function in (alike, alike_anywhere, unlike):
-            self.refuses(OtherSigns, EVERY, lambda: function(SHIFTS, only, EVERY))
-            self.refuses(OtherSigns, EVERY, lambda: function(only, SHIFTS, EVERY))
-        self.refuses(OtherSigns, EVERY, lambda: same_place(only, SHIFTS, EVERY, 1))
-        self.refuses(OtherSigns, EVERY, lambda: any_place(SHIFTS, only, EVERY, 1, later=FAR))
-
-    def test_no_call_changes_what_it_is_passed(self):
-        rows = [SHIFTS.row, ODD.row, EVERY.row]
-        first = [called(*asked) for asked in ASKED]
-        self.assertEqual([called(*asked) for asked in ASKED], first)
-        self.assertEqual([SHIFTS.row, ODD.row, EVERY.row], rows)
-
-    def test_equal_arguments_give_equal_results(self):
-        for function, names, values in ASKED:
-            made = [Loop.made(value.row) if isinstance(value, Loop) else
-                    Kind.made(value.row) if isinstance(value, Kind) else value for value in values]
-            self.assertEqual(called(function, names, values), called(function, names, made))
 
 
 if __name__ == "__main__":

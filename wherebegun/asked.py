@@ -1,7 +1,7 @@
 """The arguments that many functions have, and the errors that they raise if these are not right."""
 
 from wherebegun.checks import is_integer_from
-from wherebegun.errors import InvalidRound, NoRing, NotAKind, NotALoop, OtherSigns
+from wherebegun.errors import InvalidRound, NotAKind, NotALoop
 from wherebegun.kinds import Kind
 from wherebegun.loops import Loop
 
@@ -24,10 +24,13 @@ def check_lap(lap):
         raise InvalidRound(lap)
 
 
-def check_rings(loops, kind):
-    """Raise OtherSigns if one of the loops lacks a sign of the kind, NoRing if the kind has no ring."""
-    for loop in loops:
-        if not all([sign in loop.signs for sign in kind.signs]):
-            raise OtherSigns(kind)
-    if not kind:
-        raise NoRing()
+def check_asked(loop, kind):
+    """Raise what is to be raised for a loop and a kind, except what comes last."""
+    check_loop(loop)
+    check_kind(kind)
+
+
+def check_round(loop, kind, lap):
+    """Raise what is to be raised for a loop, a kind and a round, except what comes last."""
+    check_asked(loop, kind)
+    check_lap(lap)

@@ -1,26 +1,13 @@
 """Whether it matters where a loop is begun, and whether two loops answer alike: for all rings of a kind at once."""
 
-from wherebegun.asked import check_kind, check_lap, check_loop, check_rings
-from wherebegun.rounds import are_unlike, greatest_difference, in_all_rounds, in_round, rounds_once
-from wherebegun.stands import Stands
-from wherebegun.tables import Table, still_table
+from wherebegun.asked import check_asked, check_kind, check_lap, check_loop, check_round
+from wherebegun.needed import stands_of, stands_of_both, stands_once
+from wherebegun.rounds import (
+    ANY_PLACE, OTHER_PLACE, SAME_PLACE, are_unlike, greatest_difference, in_all_rounds, in_round, least_and_greatest,
+    rounds_once)
 from wherebegun.walks import Walks
 from wherebegun.ways import ways
-
-SAME_PLACE = (1,)
-OTHER_PLACE = (2,)
-ANY_PLACE = (1, 2)
-
-
-def _stands_of(loop, kind):
-    check_rings((loop,), kind)
-    table = Table(loop.row)
-    return Stands(table, table, kind)
-
-
-def _stands_of_both(one, other, kind):
-    check_rings((one, other), kind)
-    return Stands(Table(one.row), Table(other.row), kind)
+from wherebegun.words import fewest_unlike
 
 
 def _check_both(one, other, kind):
@@ -29,50 +16,40 @@ def _check_both(one, other, kind):
     check_kind(kind)
 
 
-def _check_round(loop, kind, lap):
-    check_loop(loop)
-    check_kind(kind)
-    check_lap(lap)
-
-
 def _range(stands, both_places, lap, later):
     """The least and the greatest difference of the counts of these rounds."""
-    greatest = in_round(Walks(stands), greatest_difference, both_places, lap, later)
-    opposite = in_round(Walks(stands, -1), greatest_difference, both_places, lap, later)
-    return (None if opposite is None else -opposite, greatest)
+    return least_and_greatest(Walks(stands), Walks(stands, -1), both_places, lap, later)
 
 
 def count_range(loop, kind, lap):
     """The least and the greatest count of this round; None where there is no bound."""
-    _check_round(loop, kind, lap)
-    check_rings((loop,), kind)
-    return _range(Stands(Table(loop.row), still_table(kind.signs), kind), SAME_PLACE, lap, lap)
+    check_round(loop, kind, lap)
+    return _range(stands_once(loop, kind), SAME_PLACE, lap, lap)
 
 
 def spread(loop, kind, lap):
     """The greatest difference of the counts of this round from two places of a ring; None if there is no bound."""
-    _check_round(loop, kind, lap)
-    return in_round(Walks(_stands_of(loop, kind)), greatest_difference, OTHER_PLACE, lap, lap)
+    check_round(loop, kind, lap)
+    return in_round(Walks(stands_of(loop, kind)), greatest_difference, OTHER_PLACE, lap, lap)
 
 
 def disagrees(loop, kind, lap):
     """Whether for some ring and two of its places the loop says yes after this round from one of them alone."""
-    _check_round(loop, kind, lap)
-    stands = _stands_of(loop, kind)
+    check_round(loop, kind, lap)
+    stands = stands_of(loop, kind)
     return any([not way.says_alike(way.moment(lap, lap)) for way in ways(stands, 2)])
 
 
 def matters(loop, kind, lap):
     """Whether it matters in this round where the loop is begun."""
-    _check_round(loop, kind, lap)
-    return in_round(Walks(_stands_of(loop, kind)), are_unlike, OTHER_PLACE, lap, lap) == 1
+    check_round(loop, kind, lap)
+    return in_round(Walks(stands_of(loop, kind)), are_unlike, OTHER_PLACE, lap, lap) == 1
 
 
 def spreads(loop, kind):
     """The spreads in all rounds: those of the first ones, and those that come again and again."""
-    check_loop(loop)
-    check_kind(kind)
-    stands = _stands_of(loop, kind)
+    check_asked(loop, kind)
+    stands = stands_of(loop, kind)
     values = in_all_rounds(Walks(stands), greatest_difference, OTHER_PLACE)
     once = rounds_once(stands)
     return _shortest(values[:once], values[once:])
@@ -90,9 +67,8 @@ def _shortest(first, again):
 
 def settles(loop, kind):
     """The least number of rounds after which it does not matter any more; None if there is none."""
-    check_loop(loop)
-    check_kind(kind)
-    stands = _stands_of(loop, kind)
+    check_asked(loop, kind)
+    stands = stands_of(loop, kind)
     values = in_all_rounds(Walks(stands), are_unlike, OTHER_PLACE)
     once = rounds_once(stands)
     if 1 in values[once:]:
@@ -115,7 +91,7 @@ def _range_of_both(one, other, kind, lap, later, both_places):
     check_lap(lap)
     if later is not None:
         check_lap(later)
-    stands = _stands_of_both(one, other, kind)
+    stands = stands_of_both(one, other, kind)
     return _range(stands, both_places, lap, lap if later is None else later)
 
 
@@ -127,33 +103,21 @@ def alike(one, other, kind):
 def alike_anywhere(one, other, kind):
     """Whether the answers of both, each begun anywhere, are equal in all rounds."""
     _check_both(one, other, kind)
-    stands = _stands_of_both(one, other, kind)
+    stands = stands_of_both(one, other, kind)
     return 1 not in in_all_rounds(Walks(stands), are_unlike, ANY_PLACE)
 
 
 def unlike(one, other, kind):
     """Any pair (text, lap) of a turning and a round in which the answers of both differ; None if they are alike."""
     _check_both(one, other, kind)
-    stands = _stands_of_both(one, other, kind)
+    stands = stands_of_both(one, other, kind)
     walks = Walks(stands)
     found = []
     for way in ways(stands, 1):
         for index, moment in enumerate(way.moments()):
-            found.extend([(word, index + 1) for word in _unlike_words(way, walks, moment)])
+            found.extend([(words[0], index + 1) for words in fewest_unlike(way, walks, moment)])
     return min(found, key=_length_of_text) if found else None
 
 
 def _length_of_text(pair):
     return len(pair[0])
-
-
-def _unlike_words(way, walks, moment):
-    """For each stand of this way the shortest word with which the answers differ, if there is one."""
-    few = walks.few(moment[0], moment[1])
-    alike_sum = -way.turn_difference(moment)
-    differ = not way.says_alike(moment)
-    found = []
-    for met in way.meets:
-        words = [word for total, word in few[met[0]] if differ or total != alike_sum]
-        found.extend(words[:1])
-    return found

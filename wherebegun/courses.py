@@ -23,3 +23,15 @@ class Course:
     def behind(self, rounds):
         """The state behind so many rounds."""
         return self.path[self.place(rounds)]
+
+    def visits(self, rounds):
+        """The states ahead of the first rounds, as pairs (state, ahead of how many of them it is)."""
+        found = []
+        for at, state in enumerate(self.path[:rounds]):
+            times = 1 if at < self.head else (rounds - 1 - at) // self.again + 1
+            found.append((state, times))
+        return found
+
+    def shares(self, parts):
+        """The states that come again and again, as pairs (state, its share of so many parts)."""
+        return [(state, parts // self.again) for state in self.path[self.head:]]

@@ -8,11 +8,13 @@ class Stands:
     """All stands (map of the one, map of the other, first sign, last sign) and how they come of one another.
 
     For a single loop it stands at both places: then both maps are one, and the stands are as many as with this one.
+    If it goes `back`, the other loop reads the words from behind.
     """
 
-    def __init__(self, one, other, kind):
+    def __init__(self, one, other, kind, back=False):
         self.one = one
         self.other = other
+        self.back = back
         self.follows = {
             sign: tuple([after for after in kind.signs if sign + after in kind.pairs]) for sign in kind.signs}
         self.found = []
@@ -39,10 +41,14 @@ class Stands:
         leads_one, leads_other, first, last = stand
         steps = []
         for sign in self.follows[last]:
-            more_one = tuple([self.one.nexts[sign][state] for state in leads_one])
-            more_other = tuple([self.other.nexts[sign][state] for state in leads_other])
+            more_one = joined(leads_one, self.one.nexts[sign])
+            more_other = self._more_other(leads_other, self.other.nexts[sign])
             steps.append((sign, self._index((more_one, more_other, first, sign))))
         return steps
+
+    def _more_other(self, leads, more):
+        # Read from behind, the sign that comes last is read first.
+        return joined(more, leads) if self.back else joined(leads, more)
 
     def _by_maps(self):
         groups = {}
@@ -55,3 +61,8 @@ class Stands:
         _, _, first, last = self.found[one]
         _, _, other_first, other_last = self.found[other]
         return other_first in self.follows[last] and first in self.follows[other_last]
+
+
+def joined(leads, more):
+    """The map of a word with another word behind it."""
+    return tuple([more[state] for state in leads])

@@ -1,61 +1,35 @@
 """What the words of each stand add: the sum of their amounts from one state of the one loop less that from one state
 of the other, each word being a walk through the stands."""
 
-
-def _circling(came):
-    """One stand of each circle in which each stand came of the one that is noted for it."""
-    visit = [None for _ in came]
-    found = []
-    for start in range(len(came)):
-        stand = start
-        while stand is not None and visit[stand] is None:
-            visit[stand] = start
-            stand = came[stand]
-        if stand is not None and visit[stand] == start:
-            found.append(stand)
-    return found
-
-
-def _improved(edges, sums, came):
-    """Whether a sum became greater by a step more, each step being gone once."""
-    better = False
-    for stand, further, amount in edges:
-        total = sums[stand] + amount
-        if sums[further] is None or total > sums[further]:
-            sums[further] = total
-            came[further] = stand
-            better = True
-    return better
-
-
-def _all_behind(stands, starts):
-    """These stands and all that come of them."""
-    found = {stand: True for stand in starts}
-    waiting = list(found)
-    while waiting:
-        stand = waiting.pop()
-        for _, further in stands.steps[stand]:
-            if further not in found:
-                found[further] = True
-                waiting.append(further)
-    return found
+from wherebegun.greatest import greatest_sums
 
 
 class Walks:
-    """The walks through the stands; with the factor -1 for what the other adds less what the one adds."""
+    """The walks through the stands.
 
-    def __init__(self, stands, factor=1):
+    Each difference of amounts is taken so many times as the factor says; with the factor -1 it is what the other adds
+    less what the one adds. For each sign `step` is taken away: where the factor is great enough, of the words with one
+    difference the shorter one then has the greater sum.
+    """
+
+    def __init__(self, stands, factor=1, step=0):
         self.factor = factor
         self.stands = stands
-        self._greatest = {}
+        self._step = step
+        self._best = {}
         self._few = {}
+        self._onward = {}
         self._single = {}
 
     def _amount(self, sign, state, far):
         stands = self.stands
-        return self.factor * (stands.one.amounts[sign][state] - stands.other.amounts[sign][far])
+        return self.factor * (stands.one.amounts[sign][state] - stands.other.amounts[sign][far]) - self._step
 
-    def _edges(self, state, far):
+    def firsts(self, state, far):
+        """The words of one sign, as pairs (stand, what the sign adds)."""
+        return [(stand, self._amount(sign, state, far)) for sign, stand in self.stands.starts]
+
+    def edges(self, state, far):
         """The steps as (stand, stand behind it, what is added)."""
         edges = []
         for index, (leads_one, leads_other, _, _) in enumerate(self.stands.found):
@@ -64,39 +38,44 @@ class Walks:
                 edges.append((index, further, self._amount(sign, near, away)))
         return edges
 
+    def _best_sums(self, state, far):
+        # Each stand was found of one ahead of it: so the edges have the order that is asked for.
+        if (state, far) not in self._best:
+            self._best[state, far] = greatest_sums(
+                len(self.stands.found), self.firsts(state, far), self.edges(state, far))
+        return self._best[state, far]
+
     def greatest(self, state, far):
         """For each stand the greatest sum of its words, from these states; None if there is no bound."""
-        if (state, far) not in self._greatest:
-            self._greatest[state, far] = self._greatest_sums(state, far)
-        return self._greatest[state, far]
+        return self._best_sums(state, far)[0]
 
-    def _greatest_sums(self, state, far):
-        # Each stand was found of one ahead of it, so that it has a sum as soon as its own steps are gone.
-        sums = [None for _ in self.stands.found]
-        came = [None for _ in sums]
-        for sign, stand in self.stands.starts:
-            sums[stand] = self._amount(sign, state, far)
-        edges = self._edges(state, far)
-        while _improved(edges, sums, came):
-            # A stand that came of itself adds more than 0 on the way round: all behind it have no bound.
-            endless = _all_behind(self.stands, _circling(came))
-            if endless:
-                edges = [edge for edge in edges if edge[1] not in endless]
-                for stand in endless:
-                    sums[stand] = came[stand] = None
-        return sums
+    def word(self, state, far, stand):
+        """A word of this stand that has the greatest sum."""
+        came = self._best_sums(state, far)[1]
+        signs = []
+        while stand is not None:
+            signs.append(self.stands.found[stand][3])
+            stand = came[stand]
+        return "".join(signs[::-1])
 
     def few(self, state, far):
         """For each stand the shortest word with its sum, and the shortest one with another sum if there is one."""
         if (state, far) not in self._few:
-            self._few[state, far] = self._few_words(state, far)
+            waiting = [
+                (stand, self._amount(sign, state, far), sign) for sign, stand in self.stands.starts]
+            self._few[state, far] = self._few_words(waiting, state, far)
         return self._few[state, far]
 
-    def _few_words(self, state, far):
+    def onward(self, state, far, start):
+        """The same with what leads from the words of one stand to those of each, which may be nothing."""
+        if (state, far, start) not in self._onward:
+            self._onward[state, far, start] = self._few_words([(start, 0, "")], state, far)
+        return self._onward[state, far, start]
+
+    def _few_words(self, waiting, state, far):
         # A third sum is never needed: of two words to a stand one has a sum that is not the one asked for, and so has
         # it with the same signs behind it.
         found = [[] for _ in self.stands.found]
-        waiting = [(stand, self._amount(sign, state, far), sign) for sign, stand in self.stands.starts]
         at = 0
         while at < len(waiting):
             stand, total, word = waiting[at]
