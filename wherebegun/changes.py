@@ -26,3 +26,10 @@ def changed_row(row, change):
     else:
         states = told + tuple([state for state in states if state != told[0]])
     return (signs, states, rows, turns, yes)
+
+
+def what_changes(change):
+    """What this change puts another one in the place of: no two changes of a set have the same."""
+    if change[0] == "row":
+        return change[:3]
+    return change[:2] if change[0] == "turn" else change[:1]

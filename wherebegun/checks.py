@@ -1,6 +1,6 @@
 """What several modules ask of the values that they are passed."""
 
-from wherebegun.limits import MOST_SIGNS, MOST_WORD
+from wherebegun.limits import MOST_ROUNDS, MOST_SIGNS, MOST_WARM, MOST_WORD
 
 MOST_NAME = 8
 
@@ -13,6 +13,16 @@ def is_integer(value):
 def is_integer_from(value, least):
     """Whether this is an integer that is not less than the other one."""
     return is_integer(value) and value >= least
+
+
+def is_near_lap(value):
+    """Whether this is the number of a round of which wishes and claims may speak."""
+    return is_integer_from(value, 1) and value <= MOST_ROUNDS
+
+
+def is_warm(value):
+    """Whether this is a number of warm-up rounds that can be asked for."""
+    return is_integer_from(value, 0) and value <= MOST_WARM
 
 
 def is_word(value):

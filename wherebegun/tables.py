@@ -22,6 +22,13 @@ class Table:
             state = self.nexts[sign][state]
         return self.turn_nexts[state], count + self.turn_amounts[state]
 
+    def leads(self, text):
+        """The map of this word."""
+        leads = tuple(range(len(self.says)))
+        for sign in text:
+            leads = tuple([self.nexts[sign][state] for state in leads])
+        return leads
+
     def with_turn(self, leads):
         """The map that the turn makes of the map of a word."""
         return tuple([self.turn_nexts[state] for state in leads])
