@@ -29,7 +29,8 @@ NO_WISHES = (
     ("within", "steps", "days", 1, False, 0), ("within", "steps", "days", 1, 0, "1"), ("within", "steps", "days", 1, (), 0),
     ("within", "steps", "days", 1, 0, 0, 0), ("within", 1, "days", 1, 0, 0), ("within", "steps", ["days"], 1, 0, 0),
     ("within", "steps", "days", 1, Equal(), 0),
-    ("alike", "steps", "more"), ("alike", "steps", "more", "days", 1), ("alike", "steps", "more", 1),
+    ("alike", "steps", "more"), ("alike", "steps", "more", "days", 1), ("alike", "steps", "more", "days", "days"),
+    ("likes", "steps", "more", "days"), ("steps", "steps", "more", "days"), ("alike", "steps", "more", 1),
     ("alike", "steps", "more", "no name"), ("alike", SHIFTS, "more", "days"), ("Settles", "steps", "days", 1),
     ("settled", "steps", "days", 1), ("", "steps", "days", 1), (None, "steps", "days", 1), (Equal(), "steps", "days", 1),
     (("settles",), "steps", "days", 1), SHIFTS, EVERY, Ring("a"), Equal())
@@ -121,10 +122,10 @@ class PuttingTest(BooksCase):
         self.assertEqual(self.book.changes, 3)
 
     def test_names(self):
-        for name in ("a", "z", "a1", "abcdefgh", "x0000000", "zzzzzzzz"):
+        for name in ("a", "z", "a1", "abcdefgh", "x0000099", "zzzzzzzz"):
             self.put(name, SHIFTS)
             self.assertIs(self.book[name], SHIFTS)
-        self.assertEqual(self.book.names, ("a", "a1", "abcdefgh", "days", "steps", "x0000000", "z", "zzzzzzzz"))
+        self.assertEqual(self.book.names, ("a", "a1", "abcdefgh", "days", "steps", "x0000099", "z", "zzzzzzzz"))
         self.assertEqual(list(self.book), list(self.book.names))
         self.assertEqual(len(self.book), 8)
 

@@ -62,6 +62,28 @@ class SpreadTest(CertificatesCase):
                      ("spread", SHIFTS.row, SWITCH.row, 1, 1), ("settled", SHIFTS.row, EVERY.row, 1)):
             self.assertIs(accepts(told, certificate), accepts_by_hand(told, certificate))
 
+    def test_stands_without_a_bound_are_left_out(self):
+        # Behind an a each b counts; but no ring of the kind has both signs.
+        loop = loop_of({"a": "qq", "b": "pq"}, {"a": (0, 0), "b": (0, 1)}, "pp")
+        kind = Kind("ab", ("aa", "ab", "bb"))
+        claim, certificate = self.accepted(certify_spread(loop, kind, 1))
+        self.assertEqual(claim[3:], (1, 0))
+        pairs = {triple[:2]: dict(triple[2]) for triple in certificate}
+        # Only the words that begin with b have no bound there.
+        self.assertEqual(pairs[1, 0], {((1, 1), "a", "a"): 0, ((1, 1), "a", "b"): 0})
+        self.assertEqual(pairs[0, 1], {((1, 1), "a", "a"): 0, ((0, 1), "b", "b"): -1, ((1, 1), "a", "b"): 0})
+
+    def test_six_states_and_far_rounds(self):
+        source = random.Random(14)
+        found = set()
+        for _ in range(40):
+            loop = some_loop(source, "ab", source.choice((4, 5, 6)), 1)
+            for lap in (5, 6, 7, 8, 97, 98, 99):
+                claim, certificate = self.accepted(certify_spread(loop, SWITCH, lap))
+                self.assertIs(accepts_by_hand(claim, certificate), True)
+                found.add(claim[0])
+        self.assertEqual(found, {"spread", "pumped"})
+
     def test_just_600_stands(self):
         self.assertEqual(self.accepted(certify_spread(JUST_600, EVERY, 1))[0][0], "pumped")
 
@@ -150,6 +172,14 @@ class RangeTest(CertificatesCase):
                 self.assertIs(accepts(claim[:4] + (ends[0], ends[1] - 1), certificate), False)
                 self.assertIs(accepts(claim[:4] + (ends[0] - 1, ends[1] + 5), certificate), True)
         self.assertEqual(found, {True, False})
+
+    def test_stands_without_a_bound_are_left_out(self):
+        loop = loop_of({"a": "qq", "b": "pq"}, {"a": (0, 0), "b": (0, 1)}, "pp")
+        claim, certificate = self.accepted(certify_range(loop, Kind("ab", ("aa", "ab", "bb")), 1))
+        self.assertEqual(claim[3:], (1, 0, 0))
+        self.assertEqual([state for state, _, _ in certificate], [0])
+        self.assertEqual(dict(certificate[0][1])[(1, 1), "a", "b"], 1)
+        self.assertNotIn(((1, 1), "a", "b"), dict(certificate[0][2]))
 
     def test_one_end_alone_has_no_bound(self):
         loop = loop_of({"a": "p"}, {"a": (1,)})

@@ -256,7 +256,9 @@ class PumpedTest(Case):
         for told in (
                 ("a", "aba", "", ""), ("", "aba", "", "a"), ("a", "", "", "a"), ("a", "aba", None, "a"),
                 ("a", "aa", "", "a"), ("a", "ab", "", "a"), ("a", "a", "", "a"), ("a", "aba", "c", "a"),
-                ("b", "aba", "", "a"), ("a", "aba", "", "a", ""), ("a", "aba", "")):
+                ("b", "aba", "", "a"), ("a", "aba", "", "a", ""), ("a", "aba", ""), ("a", "aba", "A", "a"),
+                ("a", "aba", "1", "a"), ("a", "aba", " ", "a"), ("a", "aba", "b" * 601, "a"), ("A", "aba", "", "a"),
+                ("a", "aBa", "", "a"), ("a", "aba", "", "\n")):
             self.assertIs(accepts(right, told), accepts_by_hand(right, told), told)
             self.assertIs(accepts(right, told), False, told)
         for told in (("a", "aba", "b", "a"), ("ba", "aba", "", "a"), ("a", "abaaba", "", "a"), ("a", "aba", "", "aa")):

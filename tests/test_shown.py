@@ -73,12 +73,30 @@ class WidestTest(ShownCase):
             max(counts) - min(counts) for length in range(1, 13) for text in texts_of(EVERY, length)
             for counts in [[counted(loop, turning, 1) for turning in turnings(text)]]))
 
-    def test_words_of_a_few_signs_are_found(self):
-        # Longer and longer walks have the same greatest sum here; a word of at most 600 signs is there all the same.
-        for seed in range(40):
-            loop = some_loop(random.Random(seed), "ab", 3, 0)
-            for lap in (1, 2):
-                self.assertLess(len(widest(loop, EVERY, lap)[0]), 20)
+    def test_turns_that_tell_which_is_greatest(self):
+        source = random.Random(11)
+        found = set()
+        for _ in range(200):
+            loop = some_loop(source, "ab", source.choice((2, 3)), 1)
+            turns = tuple((state, further, source.randint(-4, 4)) for state, further, _ in loop.turns)
+            loop = Loop("ab", loop.states, loop.rows, turns)
+            found.add(self.check(loop, source.choice(KINDS), source.choice(LAPS)))
+        self.assertTrue({None, 0, 1, 2, 3, 4, 5, 6, 7} <= found, found)
+
+    def test_no_ring_of_fewer_signs_has_the_spread(self):
+        # It is so that no word is longer than it need be: then it has at most 600 signs, if any has.
+        for loop, _, kind, rings in samples():
+            for lap in LAPS:
+                pair = widest(loop, kind, lap)
+                if pair is not None and len(pair[0]) <= rings.lengths[0]:
+                    self.assertEqual(len(pair[0]), self.first_with(rings, lap, spread(loop, kind, lap)))
+
+    def first_with(self, rings, lap, most):
+        for length in range(2, rings.lengths[0] + 1):
+            for near, _ in rings.of_length(length):
+                counts = [answer[lap - 1][0] for answer in near]
+                if max(counts) - min(counts) == most:
+                    return length
 
     def test_just_600_stands(self):
         self.assertIsNone(widest(JUST_600, EVERY, 1))
@@ -183,6 +201,16 @@ class PumpedTest(Case):
         behind = loop_of({"a": "qpq", "b": "qrp"}, {"a": (1, 1, 1), "b": (0, -1, 0)}, "ppr", (-1, 0, 0), "q")
         self.assertEqual(bool(self.check(behind, SWITCH, 3)[2]), True)
         self.assertEqual(self.check(ODD, EVERY, 1)[2], "")
+
+    def test_pieces_that_are_looked_for(self):
+        # The first stand without a bound is no part of a circle, or it does not lead to the stand that is asked for.
+        for loop, kind, lap in (
+                (loop_of({"a": "rrp", "b": "qqr", "c": "prq"}, {"a": (1, 0, -1), "b": (-1, -1, 1), "c": (-1, 1, 1)},
+                         "qpr"), Kind("abc", ("ab", "ba", "bc", "cb")), 1),
+                (loop_of({"a": "sqqp", "b": "rqqs"}, {"a": (0, -1, 0, 0), "b": (1, 1, -1, -1)}, "pqpq", (0, 0, 0, -1)),
+                 Kind("ab", ("ab", "ba", "bb")), 2),
+                (loop_of({"a": "rqq", "b": "qqr"}, {"a": (1, 0, 0), "b": (-1, -1, 0)}, "pqp"), EVERY, 2)):
+            self.assertIsNotNone(self.check(loop, kind, lap))
 
     def test_a_piece_by_which_it_grows_or_falls(self):
         steps_up = loop_of({"a": "pq", "b": "qp"}, {"a": (1, 0), "b": (0, 0)}, "pp")
