@@ -180,6 +180,10 @@ class RangeTest(CertificatesCase):
         self.assertEqual([state for state, _, _ in certificate], [0])
         self.assertEqual(dict(certificate[0][1])[(1, 1), "a", "b"], 1)
         self.assertNotIn(((1, 1), "a", "b"), dict(certificate[0][2]))
+        claim, certificate = self.accepted(certify_range(-loop, Kind("ab", ("aa", "ab", "bb")), 1))
+        self.assertEqual(claim[3:], (1, 0, 0))
+        self.assertEqual(dict(certificate[0][2])[(1, 1), "a", "b"], -1)
+        self.assertNotIn(((1, 1), "a", "b"), dict(certificate[0][1]))
 
     def test_one_end_alone_has_no_bound(self):
         loop = loop_of({"a": "p"}, {"a": (1,)})

@@ -362,6 +362,37 @@ class SettledTest(Case):
             self.assertIs(accepts(claim, put(told, (lap,), ())), accepts_by_hand(claim, put(told, (lap,), ())))
 
 
+    def test_each_round_has_a_bounding_of_its_own(self):
+        source = random.Random(41)
+        found = {True: 0, False: 0}
+        for _ in range(60):
+            loop = some_loop(source, "ab", source.choice((2, 3)), 1)
+            kind = source.choice((EVERY, SWITCH, KINDS[2]))
+            states = len(loop.states)
+            for number in (0, 1, 2):
+                rounds = range(number + 1, max(number, states - 1) + (2, 6)[states - 2] + 1)
+                made = [certify_spread(loop, kind, lap) for lap in rounds]
+                if all(claim[0] == "spread" for claim, _ in made):
+                    claim = ("settled", loop.row, kind.row, number)
+                    parts = [certificate for _, certificate in made]
+                    # What is enough for one round alone may lack what the next one needs, whatever stands beside it.
+                    for told in (parts, parts[::-1], parts[:1] * len(parts), parts[:1] + parts[1:2] * len(parts[1:]),
+                                 (parts[:2] * 9)[:len(parts)], parts[:-1] + parts[:1], parts[1:] + parts[-1:]):
+                        accepted = accepts(claim, tuple(told))
+                        self.assertIs(accepted, accepts_by_hand(claim, tuple(told)))
+                        found[accepted] += 1
+        self.assertTrue(found[True] > 100 and found[False] > 100, found)
+
+    def test_a_bounding_that_is_enough_for_the_first_round_alone(self):
+        # It looks at the signs in each third round only.
+        late = loop_of({"a": "pqss", "b": "pqrr"}, {"a": (0, 0, 0, 0), "b": (0, 0, 0, 1)}, "qrpp")
+        claim, certificate = certify_spread(late, EVERY, 1)
+        self.assertEqual(claim[4], 0)
+        for lap in (1, 2):
+            self.assertIs(accepts(claim[:3] + (lap, 0), certificate), True)
+        self.assertIs(accepts(("settled", late.row, EVERY.row, 0), (certificate,) * 15), False)
+
+
 class WithinTest(Case):
     def test_nearer_ends(self):
         claim, certificate = certify_range(ANEW, Kind("a"), 1)

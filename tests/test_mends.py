@@ -183,6 +183,8 @@ class ChangesTest(Case):
         self.wrong(6, rows + (("begin", "p"),))
         self.wrong(6, rows + rows)
         self.wrong(6, rows + (None,))
+        self.wrong(6, rows + (("begin", "p"), None))
+        self.wrong(6, rows + (("begin", "p"), ("begin", "p")))
         self.wrong(5, rows[:5] + (None,) + rows[:1])
         self.wrong(3, rows[:3] + rows[:1] + rows)
 
