@@ -81,6 +81,15 @@ class TotalSpreadTest(Case):
         self.assertEqual([total_spread(ODD, SWITCH, rounds) for rounds in range(1, 9)], [1, 0] * 4)
         self.assertEqual([total_spread(SHIFTS, EVERY, rounds) for rounds in range(1, 31)], [1] * 30)
 
+    def test_first_rounds_that_do_not_come_again(self):
+        # Only the first sign of a round counts: 1 for an a in the first round, 10 in the second one, then 100.
+        loop = loop_of({"a": "stustu", "b": "stustu"}, {"a": (1, 10, 100, 0, 0, 0), "b": (0,) * 6}, "pqrqrr")
+        self.assertEqual(spreads(loop, EVERY), ((1, 10), (100,)))
+        self.assertEqual(
+            [total_spread(loop, EVERY, rounds) for rounds in range(1, 31)],
+            [1, 11] + [11 + 100 * times for times in range(1, 29)])
+        self.assertEqual(pace_spread(loop, EVERY), (100, 1))
+
     def test_no_bound_in_some_rounds_together(self):
         # In the first round there is no bound, in both together there is.
         loop = loop_of({"a": "qp", "b": "pq"}, {"a": (0, 0), "b": (1, -1)}, "qp")
