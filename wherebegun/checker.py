@@ -67,11 +67,12 @@ def _settled(loop, kind, told, certificate):
 
 
 def _together(boundings, first):
-    """The boundings with the numbers of their rounds, those with one bounding side by side taken together."""
+    """The boundings that are not alike, each with the numbers of its rounds."""
     groups = []
     for lap, bounding in enumerate(boundings, start=first):
-        if groups and groups[-1][0] == bounding:
-            groups[-1][1].append(lap)
+        alike = [laps for other, laps in groups if other == bounding]
+        if alike:
+            alike[0].append(lap)
         else:
             groups.append((bounding, [lap]))
     return groups
