@@ -123,7 +123,7 @@ class Book:
 
     def tried(self, action):
         """Call the function with the book within such a statement, and return what it returns."""
-        with self.trial() as book:
+        with Trial(self) as book:
             return action(book)
 
     def _check_known(self, name):
